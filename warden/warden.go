@@ -4,11 +4,14 @@ package warden
 import (
 	"warden/api"
 	"warden/boxes"
+	"warden/desk"
 	"warden/seal"
 )
 
 // Plain is a desk that takes one request after the other.
-type Plain struct{}
+type Plain struct {
+	desk desk.Desk
+}
 
 // Quick is a desk that takes them in batches.
 type Quick struct{}
@@ -39,16 +42,33 @@ func Show(box []byte) (string, api.Errno) {
 }
 
 // NewPlain makes a plain desk (P5).
-func NewPlain(skew int, draws []byte) (*Plain, api.Errno) { return nil, api.OK }
+func NewPlain(skew int, draws []byte) (*Plain, api.Errno) {
+	made, errno := desk.New(skew, draws)
+	if errno != api.OK {
+		return nil, errno
+	}
+	return &Plain{desk: made}, api.OK
+}
 
 // Admin does something to the book (P5).
-func (p *Plain) Admin(a api.Admin) api.Errno { return api.OK }
+func (p *Plain) Admin(a api.Admin) api.Errno {
+	if p == nil {
+		// What NewPlain gives beside an error has no book.
+		return api.ErrArg
+	}
+	return p.desk.Admin(a)
+}
 
 // Answer answers a request (P7 to P10).
 func (p *Plain) Answer(now int64, request []byte) []byte { return nil }
 
 // State tells what there is (P6).
-func (p *Plain) State() api.State { return api.State{} }
+func (p *Plain) State() api.State {
+	if p == nil {
+		return api.State{}
+	}
+	return p.desk.State()
+}
 
 // NewQuick makes a quick desk (P11).
 func NewQuick(skew int, draws []byte) (*Quick, api.Errno) { return nil, api.OK }
