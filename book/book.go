@@ -26,6 +26,28 @@ type Entry struct {
 	Policy
 }
 
+// KeyOf gives the key of a number, if the entry keeps it.
+func (e *Entry) KeyOf(number int64) (key uint64, ok bool) {
+	newest := int64(e.Number)
+	switch {
+	case number == newest:
+		return e.Key, true
+	case number == newest-1 && number > 0:
+		return e.Before, true
+	}
+	return 0, false
+}
+
+// Has tells whether all of some flags are set.
+func (p *Policy) Has(flags int) bool {
+	return p.Flags&flags == flags
+}
+
+// IsOver tells whether a time is at Expire or behind it.
+func (p *Policy) IsOver(now int64) bool {
+	return p.Expire != 0 && now >= p.Expire
+}
+
 // Book has its entries, sorted by name, in itself: a copy of a book is a book of its own, and an empty one is ready.
 type Book struct {
 	room  [api.MaxEntries]Entry

@@ -118,3 +118,50 @@ func TestACopyIsABookOfItsOwn(t *testing.T) {
 	wantEntry(t, &b, Entry{Name: "al", Number: 2, Key: 22, Before: 11})
 	wantNone(t, &b, "aa")
 }
+
+func TestKeysByTheirNumbers(t *testing.T) {
+	const min, max = math.MinInt64, math.MaxInt64
+	for _, c := range []struct {
+		newest int
+		number int64
+		key    uint64
+		ok     bool
+	}{
+		{1, 1, 7, true}, {1, 0, 0, false}, {1, 2, 0, false}, {1, -1, 0, false}, {1, min, 0, false}, {1, max, 0, false}, {1, 1 << 32, 0, false}, {1, 1<<32 + 1, 0, false},
+		{2, 2, 7, true}, {2, 1, 6, true}, {2, 0, 0, false}, {2, 3, 0, false}, {2, 1<<32 + 2, 0, false},
+		{9, 9, 7, true}, {9, 8, 6, true}, {9, 7, 0, false}, {9, 10, 0, false}, {9, -8, 0, false}, {9, -9, 0, false},
+	} {
+		entry := Entry{Number: c.newest, Key: 7, Before: 6}
+		if key, ok := entry.KeyOf(c.number); key != c.key || ok != c.ok {
+			t.Errorf("P9: KeyOf(%d) of an entry with the key number %d = %d, %v", c.number, c.newest, key, ok)
+		}
+	}
+}
+
+func TestExpire(t *testing.T) {
+	const min, max = math.MinInt64, math.MaxInt64
+	for _, c := range []struct {
+		expire, now int64
+		over        bool
+	}{
+		{0, 0, false}, {0, 5, false}, {0, max, false}, {0, min, false},
+		{5, 4, false}, {5, 5, true}, {5, 6, true}, {-5, -6, false}, {-5, -5, true}, {-5, 0, true},
+		{max, max - 1, false}, {max, max, true}, {min, min, true}, {min, max, true}, {max, min, false}, {1, 0, false}, {-1, 0, true},
+	} {
+		policy := Policy{Expire: c.expire}
+		if over := policy.IsOver(c.now); over != c.over {
+			t.Errorf("P7: with Expire %d at %d: over is %v", c.expire, c.now, over)
+		}
+	}
+}
+
+func TestFlags(t *testing.T) {
+	for flags := range 64 {
+		for bit := range 6 {
+			policy := Policy{Flags: flags}
+			if policy.Has(1<<bit) != (flags>>bit%2 == 1) {
+				t.Errorf("flags %d have %d: %v", flags, 1<<bit, policy.Has(1<<bit))
+			}
+		}
+	}
+}

@@ -19,6 +19,14 @@ func AppendNumber[T Integer](out []byte, v T) []byte {
 	return highfirst.Append(append(out, Number, byte(size)), v, size)
 }
 
+// AppendNumbers puts the boxes of some numbers behind out.
+func AppendNumbers[T Integer](out []byte, numbers ...T) []byte {
+	for _, v := range numbers {
+		out = AppendNumber(out, v)
+	}
+	return out
+}
+
 // ReadNumber reads what is in a box of the tag Number. It is not ok, if that has more bytes than needed, or T cannot hold it.
 func ReadNumber[T Integer](in []byte) (v T, ok bool) {
 	if len(in) < 1 || len(in) > maxNumber {

@@ -25,12 +25,14 @@ func (d *Draws) Left() int {
 	return len(d.left)
 }
 
-// Take draws the next number. It is not ok, and nothing is taken, if too few bytes are left for one.
-func (d *Draws) Take() (draw uint64, ok bool) {
-	if len(d.left) < Size {
-		return 0, false
+// Fill draws the next numbers, one for each place. It is not ok, and nothing is taken, if too few bytes are left for all of them.
+func (d *Draws) Fill(places []uint64) (ok bool) {
+	if len(d.left) < Size*len(places) {
+		return false
 	}
-	draw = highfirst.Join(uint64(0), d.left[:Size])
-	d.left = d.left[Size:]
-	return draw, true
+	for i := range places {
+		places[i] = highfirst.Join(uint64(0), d.left[:Size])
+		d.left = d.left[Size:]
+	}
+	return true
 }

@@ -1,19 +1,25 @@
 package draws
 
-import "testing"
+import (
+	"slices"
+	"testing"
+)
 
-func wantDraw(t *testing.T, d *Draws, want uint64, left int) {
+func wantDraws(t *testing.T, d *Draws, left int, want ...uint64) {
 	t.Helper()
-	if draw, ok := d.Take(); draw != want || !ok || d.Left() != left {
-		t.Errorf("P5: Take() = %#x, %v, %d left, want %#x, %d left", draw, ok, d.Left(), want, left)
+	places := make([]uint64, len(want))
+	if ok := d.Fill(places); !ok || !slices.Equal(places, want) || d.Left() != left {
+		t.Errorf("P5: Fill(..) = %v, %#x, %d left, want %#x, %d left", ok, places, d.Left(), want, left)
 	}
 }
 
-func wantNoDraw(t *testing.T, d *Draws, left int) {
+// wantTooFew wants that n numbers cannot be drawn, and that nothing changes by that.
+func wantTooFew(t *testing.T, d *Draws, n, left int) {
 	t.Helper()
 	for range 2 {
-		if draw, ok := d.Take(); draw != 0 || ok || d.Left() != left {
-			t.Errorf("P5: Take() = %#x, %v, %d left, want none, %d left", draw, ok, d.Left(), left)
+		places := make([]uint64, n)
+		if ok := d.Fill(places); ok || slices.Max(places) != 0 || d.Left() != left {
+			t.Errorf("P5: Fill(..) = %v, %#x, %d left, want none, %d left", ok, places, d.Left(), left)
 		}
 	}
 }
@@ -27,11 +33,14 @@ func count(n int) []byte {
 }
 
 func TestDrawsAreTakenInTheirOrder(t *testing.T) {
-	d := Of(count(29))
-	wantDraw(t, &d, 0x0102030405060708, 21)
-	wantDraw(t, &d, 0x090a0b0c0d0e0f10, 13)
-	wantDraw(t, &d, 0x1112131415161718, 5)
-	wantNoDraw(t, &d, 5)
+	d := Of(count(37))
+	wantDraws(t, &d, 29, 0x0102030405060708)
+	wantDraws(t, &d, 29)
+	wantTooFew(t, &d, 4, 29)
+	wantDraws(t, &d, 5, 0x090a0b0c0d0e0f10, 0x1112131415161718, 0x191a1b1c1d1e1f20)
+	wantTooFew(t, &d, 1, 5)
+	wantTooFew(t, &d, 3, 5)
+	wantDraws(t, &d, 5)
 }
 
 func TestDrawsOfEveryLength(t *testing.T) {
@@ -40,31 +49,29 @@ func TestDrawsOfEveryLength(t *testing.T) {
 		if d.Left() != n {
 			t.Errorf("P6: Left of %d bytes = %d", n, d.Left())
 		}
-		for range n / Size {
-			if _, ok := d.Take(); !ok {
-				t.Errorf("P5: too few numbers of %d bytes", n)
-			}
+		wantTooFew(t, &d, n/Size+1, n)
+		if ok := d.Fill(make([]uint64, n/Size)); !ok || d.Left() != n%Size {
+			t.Errorf("P5: too few numbers of %d bytes", n)
 		}
-		wantNoDraw(t, &d, n%Size)
+		wantTooFew(t, &d, 1, n%Size)
 	}
 	var none Draws
-	wantNoDraw(t, &none, 0)
+	wantTooFew(t, &none, 1, 0)
 }
 
 func TestDrawsHoldTheHighBit(t *testing.T) {
 	d := Of([]byte{255, 255, 255, 255, 255, 255, 255, 254, 128, 0, 0, 0, 0, 0, 0, 0})
-	wantDraw(t, &d, 1<<64-2, 8)
-	wantDraw(t, &d, 1<<63, 0)
+	wantDraws(t, &d, 0, 1<<64-2, 1<<63)
 }
 
 func TestDrawsAreACopy(t *testing.T) {
 	data := count(16)
 	d := Of(data)
 	clear(data)
-	wantDraw(t, &d, 0x0102030405060708, 8)
+	wantDraws(t, &d, 8, 0x0102030405060708)
 	copied := d
-	wantDraw(t, &d, 0x090a0b0c0d0e0f10, 0)
-	wantDraw(t, &copied, 0x090a0b0c0d0e0f10, 0)
+	wantDraws(t, &d, 0, 0x090a0b0c0d0e0f10)
+	wantDraws(t, &copied, 0, 0x090a0b0c0d0e0f10)
 	for i, b := range data {
 		if b != 0 {
 			t.Errorf("P2: the byte %d of what was handed in was written", i)

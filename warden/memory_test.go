@@ -107,3 +107,91 @@ func TestNoCallPanicsAtAnyBytes(t *testing.T) {
 		}
 	}
 }
+
+func TestRequestsStayTheirOwners(t *testing.T) {
+	for kind, boxes := range rightRequests() {
+		request, check := roomy(t, makeList(boxes...))
+		deskOf(t, 24, usual(0)...).Answer(1000, request)
+		check("Answer of " + kind)
+		deskOf(t, 0).Answer(1000, request)
+		check("Answer, a refusal, of " + kind)
+	}
+	// A request that is changed behind the call, ahead of another.
+	p := deskOf(t, 48, usual(0)...)
+	request := plainNext(plainGrant).write()
+	reply := p.Answer(1000, request)
+	spoil(request)
+	if !bytes.Equal(reply, toWeb(0).toNext()) {
+		t.Error("P2: a reply shares memory with its request")
+	}
+	wantCode(t, "the same proof", p, 1000, plainNext(plainGrant).write(), api.Repeat)
+	wantRepeats(t, p, 1)
+	// Draws that are changed behind NewPlain.
+	draws := drawBytes(24)
+	p = newPlain(t, 10, draws)
+	for _, a := range usual(0) {
+		a.Kind = api.Add
+		wantAdmin(t, p, a, api.OK)
+	}
+	spoil(draws)
+	wantAnswer(t, "changed draws", p, 1000, plainNext(plainGrant).write(), toWeb(0).toNext())
+}
+
+func TestRepliesAreTheCallers(t *testing.T) {
+	p := deskOf(t, 240, usual(0)...)
+	g := grant{flags: 32, client: "al", auth: 1000, start: 1000, end: 1100}
+	var replies, wants [][]byte
+	answer := func(request, want []byte) {
+		t.Helper()
+		wantAnswer(t, "behind spoilt replies", p, 1000, request, want)
+		for _, reply := range replies {
+			spoil(reply)
+			_ = append(reply, 1, 2, 3)
+		}
+	}
+	for i := range 4 {
+		ask := plainNext(plainGrant)
+		ask.proof = makeProof(50, "al", 1000, int64(i))
+		answer(plainFirst.write(), toTgs(g).drawnFrom(6*i).toFirst())
+		replies = append(replies, p.Answer(1000, nil), p.Answer(1000, ask.write()), p.Answer(1000, ask.write()))
+	}
+	wantState(t, p, api.State{Names: []string{"al", "tgs", "web"}, Numbers: []int{1, 1, 1}, Repeats: 4, Left: 240 - 4*48})
+	// No two of them share any: one is spoilt, the others stay.
+	p = deskOf(t, 240, usual(0)...)
+	replies = [][]byte{p.Answer(1000, plainFirst.write()), p.Answer(1000, plainFirst.write()), p.Answer(1000, nil), p.Answer(1000, nil), p.Answer(1000, plainNext(plainGrant).write())}
+	for _, reply := range replies {
+		wants = append(wants, bytes.Clone(reply))
+	}
+	for i, reply := range replies {
+		spoil(reply)
+		for j := i + 1; j < len(replies); j++ {
+			if !bytes.Equal(replies[j], wants[j]) {
+				t.Errorf("P2: the replies %d and %d share memory", i, j)
+			}
+		}
+	}
+}
+
+func TestDesksThatAnswerSideBySide(t *testing.T) {
+	draws := drawBytes(72)
+	p, q := newPlain(t, 10, draws), newPlain(t, 10, draws)
+	for _, a := range usual(0) {
+		a.Kind = api.Add
+		wantAdmin(t, p, a, api.OK)
+		wantAdmin(t, q, a, api.OK)
+	}
+	request := plainNext(plainGrant).write()
+	wantAnswer(t, "one desk", p, 1000, request, toWeb(0).toNext())
+	wantRepeats(t, q, 0)
+	wantAnswer(t, "the other desk", q, 1000, request, toWeb(0).toNext())
+	wantCode(t, "one desk again", p, 1000, request, api.Repeat)
+	// A copy of a desk is one of its own too.
+	copied := *p
+	ask := plainNext(plainGrant)
+	ask.proof = makeProof(50, "al", 1000, 2)
+	wantAnswer(t, "a copy", &copied, 1000, ask.write(), toWeb(0).drawnFrom(3).toNext())
+	wantCode(t, "a copy, later", &copied, 5000, showProof("al", 5000, 1), api.ServiceUnknown)
+	wantRepeats(t, p, 1)
+	wantCode(t, "one desk again", p, 1000, request, api.Repeat)
+	wantAnswer(t, "one desk", p, 1000, ask.write(), toWeb(0).drawnFrom(3).toNext())
+}

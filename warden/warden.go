@@ -60,7 +60,13 @@ func (p *Plain) Admin(a api.Admin) api.Errno {
 }
 
 // Answer answers a request (P7 to P10).
-func (p *Plain) Answer(now int64, request []byte) []byte { return nil }
+func (p *Plain) Answer(now int64, request []byte) []byte {
+	if p == nil {
+		// It has no book, so it answers as a desk with an empty one.
+		p = new(Plain)
+	}
+	return p.desk.Answer(now, request)
+}
 
 // State tells what there is (P6).
 func (p *Plain) State() api.State {
