@@ -27,9 +27,24 @@ func TestWrittenTextsAndLists(t *testing.T) {
 		if out := AppendText([]byte("ahead"), string(in)); !bytes.Equal(out, append([]byte("ahead\x04"), behind...)) {
 			t.Errorf("AppendText of a string of %d bytes begins with %v", c.length, out[5:min(len(out), 10)])
 		}
-		if out := AppendList([]byte("ahead"), in); !bytes.Equal(out, append([]byte("ahead\x30"), behind...)) {
-			t.Errorf("AppendList of %d bytes begins with %v", c.length, out[5:min(len(out), 10)])
+		// With no spare room, and with more than enough.
+		for _, room := range []int{0, 1, 70000} {
+			written := append(make([]byte, 0, 5+c.length+room), "ahead"...)
+			written = append(written, in...)
+			if out := Wrap(written, 5, List); !bytes.Equal(out, append([]byte("ahead\x30"), behind...)) {
+				t.Errorf("Wrap of %d bytes as a list begins with %v", c.length, out[5:min(len(out), 10)])
+			}
 		}
+	}
+}
+
+func TestWrappedInOneAnother(t *testing.T) {
+	out := Wrap([]byte{1, 2, 3}, 1, Text)
+	out = Wrap(out, 1, List)
+	out = Wrap(out, 0, List)
+	out = Wrap(out, len(out), Text)
+	if want := []byte{48, 7, 1, 48, 4, 4, 2, 2, 3, 4, 0}; !bytes.Equal(out, want) {
+		t.Errorf("boxes that are wrapped = %v, want %v", out, want)
 	}
 }
 

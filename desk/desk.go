@@ -5,9 +5,7 @@ import (
 	"warden/api"
 	"warden/book"
 	"warden/draws"
-	"warden/messages"
 	"warden/proofs"
-	"warden/saturate"
 )
 
 // Desk is a book, the draws, the proofs that were shown lately, and how far a client's time may be apart from the desk's. A copy of a desk is a desk of its own.
@@ -31,6 +29,11 @@ func (d *Desk) Admin(a api.Admin) api.Errno {
 	return d.book.Change(a)
 }
 
+// Find looks an entry up in the book.
+func (d *Desk) Find(name string) (entry book.Entry, ok bool) {
+	return d.book.Find(name)
+}
+
 // State tells what there is.
 func (d *Desk) State() api.State {
 	return api.State{
@@ -41,31 +44,7 @@ func (d *Desk) State() api.State {
 	}
 }
 
-// Answer answers a request.
+// Answer answers a request: every entry is looked up anew, and all memory is new.
 func (d *Desk) Answer(now int64, request []byte) []byte {
-	if ask, ok := messages.ReadFirst(request); ok {
-		return d.answerFirst(now, ask)
-	}
-	if ask, ok := messages.ReadNext(request); ok {
-		return d.answerNext(now, ask)
-	}
-	return messages.Refuse(now, api.Generic)
-}
-
-// isFar tells whether a client's time is more than skew apart from now.
-func (d *Desk) isFar(now, time int64) bool {
-	return saturate.Apart(now, time) > d.skew
-}
-
-// isAhead tells whether a time is yet to come, by a clock that may be skew behind.
-func (d *Desk) isAhead(now, time int64) bool {
-	return time > saturate.Sum(now, d.skew)
-}
-
-// draw fills in what of a reply is drawn. It is not ok, and nothing is drawn, if too few draws are left for that.
-func (d *Desk) draw(reply *messages.Reply) (ok bool) {
-	var drawn [3]uint64
-	ok = d.draws.Fill(drawn[:])
-	reply.Session, reply.TicketDraw, reply.PartDraw = drawn[0], drawn[1], drawn[2]
-	return ok
+	return d.AnswerBy(Means{Finder: d}, now, request)
 }

@@ -8,18 +8,18 @@ import (
 
 const firstOptions = api.Forwardable | api.Proxiable | api.Renewable | api.Postdated
 
-func (d *Desk) answerFirst(now int64, ask messages.First) []byte {
+func (h *hearing) answerFirst(ask messages.First) []byte {
 	var code int
 	// A switch with one case, for Go leaves no plain block by its label.
 checks:
 	switch {
 	default:
 		var p pair
-		p.client, p.service, code = d.find(now, asClient(ask.Client), asService(ask.Service))
+		p.client, p.service, code = h.find(asClient(ask.Client), asService(ask.Service))
 		if code != passed {
 			break checks
 		}
-		code = d.checkPre(now, &p.client, ask)
+		code = h.checkPre(&p.client, ask)
 		if code != passed {
 			break checks
 		}
@@ -28,7 +28,7 @@ checks:
 			break checks
 		}
 		code = api.CannotPostdate
-		start, ok := d.start(now, &p, ask)
+		start, ok := h.start(&p, ask)
 		if !ok {
 			break checks
 		}
@@ -38,7 +38,7 @@ checks:
 			break checks
 		}
 		reply := messages.Reply{
-			Grant:      messages.Grant{Client: ask.Client, Auth: now, Start: start, End: end},
+			Grant:      messages.Grant{Client: ask.Client, Auth: h.now, Start: start, End: end},
 			Service:    ask.Service,
 			ServiceKey: newestKey(&p.service),
 			Nonce:      ask.Nonce,
@@ -49,12 +49,12 @@ checks:
 			reply.Renew = p.renew(start, ask.Rtime)
 		}
 		code = api.Generic
-		if !d.draw(&reply) {
+		if !h.draw(&reply) {
 			break checks
 		}
-		return reply.ToFirst()
+		return reply.AppendToFirst(h.ToReply[:0])
 	}
-	return messages.Refuse(now, code)
+	return h.refuse(code)
 }
 
 func newestKey(entry *book.Entry) messages.Key {
@@ -62,29 +62,29 @@ func newestKey(entry *book.Entry) messages.Key {
 }
 
 // checkPre checks whether the client has shown that it has its key.
-func (d *Desk) checkPre(now int64, client *book.Entry, ask messages.First) (code int) {
+func (h *hearing) checkPre(client *book.Entry, ask messages.First) (code int) {
 	if !ask.HasPre {
 		if client.Has(api.MustPre) {
 			return api.PreRequired
 		}
 		return passed
 	}
-	time, ok := messages.OpenPre(client.Key, ask.Pre.Bytes)
+	time, ok := messages.OpenPre(h.ToOpen, client.Key, ask.Pre.Bytes)
 	switch {
 	case !ok || ask.Pre.Number != int64(client.Number):
 		return api.PreFailed
-	case d.isFar(now, time):
+	case h.isFar(time):
 		return api.Skewed
 	}
 	return passed
 }
 
 // start gives the start of a first ticket. It is not ok, if that may not be postdated.
-func (d *Desk) start(now int64, p *pair, ask messages.First) (start int64, ok bool) {
+func (h *hearing) start(p *pair, ask messages.First) (start int64, ok bool) {
 	if ask.Options&api.Postdated != 0 {
 		return ask.From, p.bothHave(api.MayPostdate)
 	}
-	return now, !d.isAhead(now, ask.From)
+	return h.now, !h.isAhead(ask.From)
 }
 
 func firstFlags(p *pair, ask messages.First) int64 {

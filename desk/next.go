@@ -17,26 +17,26 @@ const (
 	ways   = api.Renew | api.Validate | api.Forwarded | api.Proxied
 )
 
-func (d *Desk) answerNext(now int64, ask messages.Next) []byte {
+func (h *hearing) answerNext(ask messages.Next) []byte {
 	var code int
 checks:
 	switch {
 	default:
 		var old, made messages.Grant
-		old, code = d.admit(now, ask)
+		old, code = h.admit(ask)
 		if code != passed {
 			break checks
 		}
 		code = api.TicketNotYet
-		if old.Flags&api.Invalid != 0 && ask.Options&api.Validate == 0 || d.isAhead(now, old.Start) {
+		if old.Flags&api.Invalid != 0 && ask.Options&api.Validate == 0 || h.isAhead(old.Start) {
 			break checks
 		}
 		code = api.TicketExpired
-		if now > old.End {
+		if h.now > old.End {
 			break checks
 		}
 		var p pair
-		p.service, p.client, code = d.find(now, asService(ask.Service), asClient(old.Client))
+		p.service, p.client, code = h.find(asService(ask.Service), asClient(old.Client))
 		if code != passed {
 			break checks
 		}
@@ -44,7 +44,7 @@ checks:
 		if !mayBe(ask.Options, old.Flags) {
 			break checks
 		}
-		made, code = p.grant(now, ask, old)
+		made, code = p.grant(h.now, ask, old)
 		if code != passed {
 			break checks
 		}
@@ -56,16 +56,16 @@ checks:
 			PartKey:    messages.Key{Number: 0, Key: old.Session},
 		}
 		code = api.Generic
-		if !d.draw(&reply) {
+		if !h.draw(&reply) {
 			break checks
 		}
-		return reply.ToNext()
+		return reply.AppendToNext(h.ToReply[:0])
 	}
-	return messages.Refuse(now, code)
+	return h.refuse(code)
 }
 
 // admit opens the ticket and the proof of a next request. A proof that it passes is remembered.
-func (d *Desk) admit(now int64, ask messages.Next) (old messages.Grant, code int) {
+func (h *hearing) admit(ask messages.Next) (old messages.Grant, code int) {
 checks:
 	switch {
 	default:
@@ -74,7 +74,7 @@ checks:
 			break checks
 		}
 		code = api.ServiceUnknown
-		entry, ok := d.book.Find(ask.Ticket.Service)
+		entry, ok := h.Find(ask.Ticket.Service)
 		if !ok {
 			break checks
 		}
@@ -84,11 +84,11 @@ checks:
 			break checks
 		}
 		code = api.BadSeal
-		old, ok = messages.OpenTicket(key, ask.Ticket.Bytes)
+		old, ok = messages.OpenTicket(h.ToOpen, key, ask.Ticket.Bytes)
 		if !ok {
 			break checks
 		}
-		proof, ok := messages.OpenProof(old.Session, ask.Proof)
+		proof, ok := messages.OpenProof(h.ToOpen, old.Session, ask.Proof)
 		if !ok {
 			break checks
 		}
@@ -96,7 +96,7 @@ checks:
 		if proof.Client != old.Client {
 			break checks
 		}
-		code = d.checkProof(now, proof)
+		code = h.checkProof(proof)
 		if code != passed {
 			break checks
 		}
@@ -111,15 +111,16 @@ func isOnItself(ask messages.Next) bool {
 }
 
 // checkProof checks whether a proof is new, and remembers it if so.
-func (d *Desk) checkProof(now int64, proof messages.Proof) (code int) {
-	if d.isFar(now, proof.Time) {
+func (h *hearing) checkProof(proof messages.Proof) (code int) {
+	if h.isFar(proof.Time) {
 		return api.Skewed
 	}
-	d.proofs.Forget(func(time int64) bool { return d.isFar(now, time) })
+	remembered := &h.desk.proofs
+	remembered.Forget(h.isFar)
 	switch {
-	case d.proofs.Has(proof):
+	case remembered.Has(proof):
 		return api.Repeat
-	case !d.proofs.Add(proof):
+	case !remembered.Add(proof):
 		return api.Generic
 	}
 	return passed

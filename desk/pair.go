@@ -26,17 +26,17 @@ func asService(name string) party {
 }
 
 // find gives the entries of two parties. Each check asks a ahead of b.
-func (d *Desk) find(now int64, a, b party) (entryA, entryB book.Entry, code int) {
-	entryA, thereA := d.book.Find(a.name)
-	entryB, thereB := d.book.Find(b.name)
+func (h *hearing) find(a, b party) (entryA, entryB book.Entry, code int) {
+	entryA, thereA := h.Find(a.name)
+	entryB, thereB := h.Find(b.name)
 	switch {
 	case !thereA:
 		code = a.unknown
 	case !thereB:
 		code = b.unknown
-	case entryA.IsOver(now):
+	case entryA.IsOver(h.now):
 		code = a.expired
-	case entryB.IsOver(now):
+	case entryB.IsOver(h.now):
 		code = b.expired
 	case entryA.Has(api.Off) || entryB.Has(api.Off):
 		code = api.Policy

@@ -30,44 +30,55 @@ type Reply struct {
 	PartDraw   uint64
 }
 
-// ToFirst writes the reply to a first request.
-func (r *Reply) ToFirst() []byte {
-	return r.write(firstReply, useFirstReply)
+// AppendToFirst puts the reply to a first request behind out.
+func (r *Reply) AppendToFirst(out []byte) []byte {
+	return r.appendTo(out, firstReply, useFirstReply)
 }
 
-// ToNext writes the reply to a next request.
-func (r *Reply) ToNext() []byte {
-	return r.write(nextReply, useNextReply)
+// AppendToNext puts the reply to a next request behind out.
+func (r *Reply) AppendToNext(out []byte) []byte {
+	return r.appendTo(out, nextReply, useNextReply)
 }
 
-// Refuse writes a refusal.
-func Refuse(now int64, code int) []byte {
-	return boxes.AppendList(nil, boxes.AppendNumbers(nil, refusal, now, int64(code)))
+// AppendRefusal puts a refusal behind out.
+func AppendRefusal(out []byte, now int64, code int) []byte {
+	from := len(out)
+	out = boxes.AppendNumbers(out, refusal, now, int64(code))
+	return boxes.Wrap(out, from, boxes.List)
 }
 
-func (r *Reply) write(kind, use int) []byte {
-	in := boxes.AppendNumber(nil, kind)
-	in = boxes.AppendText(in, r.Client)
-	in = boxes.AppendList(in, r.ticket())
-	in = boxes.AppendList(in, appendSealed(nil, r.PartKey, use, r.PartDraw, r.part()))
-	return boxes.AppendList(nil, in)
+func (r *Reply) appendTo(out []byte, kind, use int) []byte {
+	from := len(out)
+	out = boxes.AppendNumber(out, kind)
+	out = boxes.AppendText(out, r.Client)
+	out = r.appendTicket(out)
+	out = r.appendPart(out, use)
+	return boxes.Wrap(out, from, boxes.List)
 }
 
-func (r *Reply) ticket() []byte {
-	grant := boxes.AppendNumber(nil, r.Flags)
-	grant = appendKey(grant, r.Session)
-	grant = boxes.AppendText(grant, r.Client)
-	grant = r.appendTimes(grant)
-	ticket := boxes.AppendText(nil, r.Service)
-	return appendSealed(ticket, r.ServiceKey, useTicket, r.TicketDraw, boxes.AppendList(nil, grant))
+func (r *Reply) appendTicket(out []byte) []byte {
+	from := len(out)
+	out = boxes.AppendText(out, r.Service)
+	out = boxes.AppendNumber(out, r.ServiceKey.Number)
+	plain := len(out)
+	out = boxes.AppendNumber(out, r.Flags)
+	out = appendKey(out, r.Session)
+	out = boxes.AppendText(out, r.Client)
+	out = r.appendTimes(out)
+	out = wrapSealed(out, plain, r.ServiceKey.Key, useTicket, r.TicketDraw)
+	return boxes.Wrap(out, from, boxes.List)
 }
 
-func (r *Reply) part() []byte {
-	part := appendKey(nil, r.Session)
-	part = boxes.AppendNumbers(part, r.Nonce, r.Flags)
-	part = r.appendTimes(part)
-	part = boxes.AppendText(part, r.Service)
-	return boxes.AppendList(nil, part)
+func (r *Reply) appendPart(out []byte, use int) []byte {
+	from := len(out)
+	out = boxes.AppendNumber(out, r.PartKey.Number)
+	plain := len(out)
+	out = appendKey(out, r.Session)
+	out = boxes.AppendNumbers(out, r.Nonce, r.Flags)
+	out = r.appendTimes(out)
+	out = boxes.AppendText(out, r.Service)
+	out = wrapSealed(out, plain, r.PartKey.Key, use, r.PartDraw)
+	return boxes.Wrap(out, from, boxes.List)
 }
 
 func (r *Reply) appendTimes(out []byte) []byte {
@@ -75,12 +86,14 @@ func (r *Reply) appendTimes(out []byte) []byte {
 }
 
 func appendKey(out []byte, key uint64) []byte {
-	return boxes.AppendText(out, highfirst.Append(nil, key, keySize))
+	from := len(out)
+	out = highfirst.Append(out, key, keySize)
+	return boxes.Wrap(out, from, boxes.Text)
 }
 
-// appendSealed puts a key's number behind out, and what plain is sealed to with that key. A ticket's plain and a part are never too long to be sealed: their numbers and names have few bytes.
-func appendSealed(out []byte, key Key, use int, draw uint64, plain []byte) []byte {
-	sealed, _ := seal.Seal(key.Key, use, draw, plain)
-	out = boxes.AppendNumber(out, key.Number)
-	return boxes.AppendText(out, sealed)
+// wrapSealed makes a list of the boxes behind a place of out, and a text of what that list is sealed to.
+func wrapSealed(out []byte, from int, key uint64, use int, draw uint64) []byte {
+	out = boxes.Wrap(out, from, boxes.List)
+	out = seal.Wrap(out, from, key, use, draw)
+	return boxes.Wrap(out, from, boxes.Text)
 }

@@ -31,16 +31,16 @@ type Proof struct {
 	Time, Count int64
 }
 
-// OpenPre gives the time that is sealed in pre.
-func OpenPre(key uint64, sealed []byte) (time int64, ok bool) {
-	in := boxes.Read(open(key, usePre, sealed))
+// OpenPre gives the time that is sealed in pre. Here and below, what opens is written into room, and nothing that comes out is a part of it.
+func OpenPre(room []byte, key uint64, sealed []byte) (time int64, ok bool) {
+	in := boxes.Read(open(room, key, usePre, sealed))
 	boxes.TakeNumbers(&in, &time)
 	return time, in.Done()
 }
 
 // OpenTicket gives what is sealed in a ticket.
-func OpenTicket(key uint64, sealed []byte) (grant Grant, ok bool) {
-	in := boxes.ReadList(open(key, useTicket, sealed))
+func OpenTicket(room []byte, key uint64, sealed []byte) (grant Grant, ok bool) {
+	in := boxes.ReadList(open(room, key, useTicket, sealed))
 	boxes.TakeNumbers(&in, &grant.Flags)
 	grant.Session = takeKey(&in)
 	grant.Client = takeName(&in)
@@ -49,16 +49,16 @@ func OpenTicket(key uint64, sealed []byte) (grant Grant, ok bool) {
 }
 
 // OpenProof gives what is sealed in a proof.
-func OpenProof(session uint64, sealed []byte) (proof Proof, ok bool) {
-	in := boxes.ReadList(open(session, useProof, sealed))
+func OpenProof(room []byte, session uint64, sealed []byte) (proof Proof, ok bool) {
+	in := boxes.ReadList(open(room, session, useProof, sealed))
 	proof.Client = takeName(&in)
 	boxes.TakeNumbers(&in, &proof.Time, &proof.Count)
 	return proof, in.Done()
 }
 
 // open gives the plain, or nothing, in which there is no box at all.
-func open(key uint64, use int, sealed []byte) []byte {
-	plain, _ := seal.Unseal(key, use, sealed)
+func open(room []byte, key uint64, use int, sealed []byte) []byte {
+	plain, _ := seal.Open(room, key, use, sealed)
 	return plain
 }
 

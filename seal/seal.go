@@ -2,6 +2,8 @@
 package seal
 
 import (
+	"slices"
+
 	"warden/api"
 	"warden/highfirst"
 )
@@ -40,14 +42,13 @@ func hashHead(key uint64, use int, draw uint64) uint64 {
 	return Hash(head)
 }
 
-// appendVeiled puts the bytes of in behind out, each changed by its place; done twice, they are as they were.
-func appendVeiled(out []byte, head uint64, in []byte) []byte {
+// veil changes each byte by its place; done twice, they are as they were.
+func veil(data []byte, head uint64) {
 	var room [2]byte
-	for i, b := range in {
+	for i := range data {
 		mask := hashOn(head, highfirst.Append(room[:0], i, 2)) >> 56
-		out = append(out, b^byte(mask))
+		data[i] ^= byte(mask)
 	}
-	return out
 }
 
 func isUse(use int) bool {
@@ -59,15 +60,28 @@ func Seal(key uint64, use int, draw uint64, plain []byte) ([]byte, api.Errno) {
 	if !isUse(use) || len(plain) > api.MaxPlain {
 		return nil, api.ErrArg
 	}
-	head := hashHead(key, use, draw)
 	out := make([]byte, 0, len(plain)+extra)
-	out = highfirst.Append(out, draw, edge)
-	out = appendVeiled(out, head, plain)
-	return highfirst.Append(out, hashOn(head, plain), edge), api.OK
+	return Wrap(append(out, plain...), 0, key, use, draw), api.OK
+}
+
+// Wrap seals all that lies behind a place of out, where it lies. It is for the program's own plains, which are never too long.
+func Wrap(out []byte, from int, key uint64, use int, draw uint64) []byte {
+	head := hashHead(key, use, draw)
+	plain := out[from:]
+	check := hashOn(head, plain)
+	veil(plain, head)
+	var room [edge]byte
+	out = slices.Insert(out, from, highfirst.Append(room[:0], draw, edge)...)
+	return highfirst.Append(out, check, edge)
 }
 
 // Unseal gives the plain of what was sealed.
 func Unseal(key uint64, use int, sealed []byte) ([]byte, api.Errno) {
+	return Open(nil, key, use, sealed)
+}
+
+// Open gives the plain of what was sealed, in room as far as that suffices; what was in room is lost, even if it does not open.
+func Open(room []byte, key uint64, use int, sealed []byte) ([]byte, api.Errno) {
 	if !isUse(use) {
 		return nil, api.ErrArg
 	}
@@ -76,7 +90,8 @@ func Unseal(key uint64, use int, sealed []byte) ([]byte, api.Errno) {
 	}
 	end := len(sealed) - edge
 	head := hashHead(key, use, highfirst.Join(uint64(0), sealed[:edge]))
-	plain := appendVeiled(make([]byte, 0, end-edge), head, sealed[edge:end])
+	plain := append(room[:0], sealed[edge:end]...)
+	veil(plain, head)
 	if hashOn(head, plain) != highfirst.Join(uint64(0), sealed[end:]) {
 		return nil, api.ErrSeal
 	}

@@ -154,9 +154,9 @@ func (g given) drawnFrom(at int) given {
 }
 
 // deskOf gives a desk with the skew 10 and some entries.
-func deskOf(t *testing.T, draws int, entries ...api.Admin) *warden.Plain {
+func deskOf(t *testing.T, draws int, entries ...api.Admin) *both {
 	t.Helper()
-	p := newPlain(t, 10, drawBytes(draws))
+	p := newDesk(t, 10, drawBytes(draws))
 	for _, a := range entries {
 		if a.Kind == 0 {
 			a.Kind = api.Add
@@ -180,7 +180,7 @@ func show(box []byte) string {
 	return shown
 }
 
-func wantAnswer(t *testing.T, what string, p *warden.Plain, now int64, request, want []byte) {
+func wantAnswer(t *testing.T, what string, p teller, now int64, request, want []byte) {
 	t.Helper()
 	if reply := p.Answer(now, request); !bytes.Equal(reply, want) {
 		t.Errorf("P7 to P10: %s: Answer(%d, %s) = %s, want %s", what, now, show(request), show(reply), show(want))
@@ -188,7 +188,7 @@ func wantAnswer(t *testing.T, what string, p *warden.Plain, now int64, request, 
 }
 
 // wantCode wants a refusal, and that it takes no draws and changes no entry.
-func wantCode(t *testing.T, what string, p *warden.Plain, now int64, request []byte, code int64) {
+func wantCode(t *testing.T, what string, p teller, now int64, request []byte, code int64) {
 	t.Helper()
 	want := p.State()
 	wantAnswer(t, what, p, now, request, makeRefusal(now, code))
@@ -197,7 +197,7 @@ func wantCode(t *testing.T, what string, p *warden.Plain, now int64, request []b
 }
 
 // wantRepeats wants that so many proofs are remembered.
-func wantRepeats(t *testing.T, p *warden.Plain, want int) {
+func wantRepeats(t *testing.T, p teller, want int) {
 	t.Helper()
 	if s := p.State(); s.Repeats != want {
 		t.Errorf("P6, P9: %d proofs are remembered, want %d", s.Repeats, want)
@@ -264,7 +264,7 @@ func wantShownPlain(t *testing.T, key uint64, use int, sealed []byte, want strin
 }
 
 func TestRepliesTakenApart(t *testing.T) {
-	p := newPlain(t, 10, []byte("sessione"+"ticketdr"+"partdraw"+"SESSIONE"+"TICKETDR"+"PARTDRAW"))
+	p := newDesk(t, 10, []byte("sessione"+"ticketdr"+"partdraw"+"SESSIONE"+"TICKETDR"+"PARTDRAW"))
 	for _, a := range usual(0) {
 		a.Kind = api.Add
 		wantAdmin(t, p, a, api.OK)

@@ -12,16 +12,7 @@ import (
 	"warden/warden"
 )
 
-func newPlain(t *testing.T, skew int, draws []byte) *warden.Plain {
-	t.Helper()
-	p, e := warden.NewPlain(skew, draws)
-	if p == nil || e != api.OK {
-		t.Fatalf("P5: NewPlain(%d, ..) = %v, %d", skew, p, e)
-	}
-	return p
-}
-
-func wantAdmin(t *testing.T, p *warden.Plain, a api.Admin, want api.Errno) {
+func wantAdmin(t *testing.T, p teller, a api.Admin, want api.Errno) {
 	t.Helper()
 	if e := p.Admin(a); e != want {
 		t.Errorf("P5: Admin(%+v) = %d, want %d", a, e, want)
@@ -32,7 +23,7 @@ func sameState(a, b api.State) bool {
 	return slices.Equal(a.Names, b.Names) && slices.Equal(a.Numbers, b.Numbers) && a.Repeats == b.Repeats && a.Left == b.Left
 }
 
-func wantState(t *testing.T, p *warden.Plain, want api.State) {
+func wantState(t *testing.T, p teller, want api.State) {
 	t.Helper()
 	if s := p.State(); !sameState(s, want) {
 		t.Errorf("P6: State() = %+v, want %+v", s, want)
@@ -40,7 +31,7 @@ func wantState(t *testing.T, p *warden.Plain, want api.State) {
 }
 
 // wantRefused wants an error, and that nothing is changed by it.
-func wantRefused(t *testing.T, p *warden.Plain, a api.Admin, want api.Errno) {
+func wantRefused(t *testing.T, p teller, a api.Admin, want api.Errno) {
 	t.Helper()
 	before := p.State()
 	wantAdmin(t, p, a, want)
@@ -54,17 +45,20 @@ func TestSkews(t *testing.T) {
 		if p, e := warden.NewPlain(skew, make([]byte, 24)); p != nil || e != api.ErrArg {
 			t.Errorf("P5: NewPlain(%d, ..) = %v, %d, want nil, ErrArg", skew, p, e)
 		}
+		if q, e := warden.NewQuick(skew, make([]byte, 24)); q != nil || e != api.ErrArg {
+			t.Errorf("P11: NewQuick(%d, ..) = %v, %d, want nil, ErrArg", skew, q, e)
+		}
 	}
 	for _, skew := range []int{0, 1, api.MaxSkew - 1, api.MaxSkew} {
-		wantState(t, newPlain(t, skew, nil), api.State{})
+		wantState(t, newDesk(t, skew, nil), api.State{})
 	}
 }
 
 func TestDrawsOfAnyLengthAreLeft(t *testing.T) {
 	for _, n := range []int{0, 1, 7, 8, 9, 23, 24, 25, 77, 1000, 70001} {
-		wantState(t, newPlain(t, 10, make([]byte, n)), api.State{Left: n})
+		wantState(t, newDesk(t, 10, make([]byte, n)), api.State{Left: n})
 	}
-	p := newPlain(t, 10, make([]byte, 77))
+	p := newDesk(t, 10, make([]byte, 77))
 	wantAdmin(t, p, add("web"), api.OK)
 	wantAdmin(t, p, api.Admin{Kind: api.Rekey, Name: "web"}, api.OK)
 	wantState(t, p, api.State{Names: []string{"web"}, Numbers: []int{2}, Left: 77})
@@ -72,25 +66,25 @@ func TestDrawsOfAnyLengthAreLeft(t *testing.T) {
 
 func TestDrawsStayTheirOwners(t *testing.T) {
 	draws, check := roomy(t, bytes.Repeat([]byte{9}, 30))
-	p := newPlain(t, 10, draws)
+	p := newDesk(t, 10, draws)
 	wantAdmin(t, p, add("web"), api.OK)
 	check("NewPlain")
 	spoil(draws)
 	draws = append(draws[:0], 1, 2, 3)
 	wantState(t, p, api.State{Names: []string{"web"}, Numbers: []int{1}, Left: 30})
-	wantState(t, newPlain(t, 10, draws), api.State{Left: 3})
+	wantState(t, newDesk(t, 10, draws), api.State{Left: 3})
 }
 
 func TestNamesThatMayBe(t *testing.T) {
 	for _, name := range []string{"a", "z", "0", "9", "/", "//", "tgs", "0/z", "a1/b2", strings.Repeat("q", api.MaxName)} {
-		p := newPlain(t, 0, nil)
+		p := newDesk(t, 0, nil)
 		wantAdmin(t, p, add(name), api.OK)
 		wantState(t, p, api.State{Names: []string{name}, Numbers: []int{1}})
 	}
 }
 
 func TestNamesThatMayNotBe(t *testing.T) {
-	p := newPlain(t, 0, nil)
+	p := newDesk(t, 0, nil)
 	outside := []string{"", "`", "{", ":", ".", "A", "Z", "-", "_", " ", "\x00", "\x7f", "\x80", "\xff", "é", "ａ"}
 	for _, name := range outside {
 		wantRefused(t, p, add(name), api.ErrName)
@@ -123,9 +117,9 @@ var (
 )
 
 // policyDesk gives a desk at which a policy of the kind may be told of the entry web.
-func policyDesk(t *testing.T, kind int) *warden.Plain {
+func policyDesk(t *testing.T, kind int) *both {
 	t.Helper()
-	p := newPlain(t, 0, nil)
+	p := newDesk(t, 0, nil)
 	if kind == api.Repolicy {
 		wantAdmin(t, p, add("web"), api.OK)
 	}
@@ -148,7 +142,7 @@ func TestPolicies(t *testing.T) {
 }
 
 func TestOtherKinds(t *testing.T) {
-	p := newPlain(t, 0, nil)
+	p := newDesk(t, 0, nil)
 	wantAdmin(t, p, add("web"), api.OK)
 	for _, kind := range []int{0, 5, -1, -4, 6, 1 << 32, 1<<32 + 1, math.MaxInt, math.MinInt} {
 		for _, name := range []string{"web", "x", "", "A"} {
@@ -159,9 +153,9 @@ func TestOtherKinds(t *testing.T) {
 }
 
 // fill gives a desk whose book is full: of the names a, b and so on.
-func fill(t *testing.T) *warden.Plain {
+func fill(t *testing.T) *both {
 	t.Helper()
-	p := newPlain(t, 0, nil)
+	p := newDesk(t, 0, nil)
 	for i := range api.MaxEntries {
 		wantAdmin(t, p, add(string([]byte{byte('a' + i)})), api.OK)
 	}
@@ -209,7 +203,7 @@ func TestOrderOfErrors(t *testing.T) {
 }
 
 func TestThreeRekeys(t *testing.T) {
-	p := newPlain(t, 0, nil)
+	p := newDesk(t, 0, nil)
 	wantRefused(t, p, api.Admin{Kind: api.Rekey, Name: "web"}, api.ErrNone)
 	wantAdmin(t, p, add("web"), api.OK)
 	wantAdmin(t, p, add("al"), api.OK)
@@ -221,7 +215,7 @@ func TestThreeRekeys(t *testing.T) {
 }
 
 func TestDeleteAndAddAgain(t *testing.T) {
-	p := newPlain(t, 0, nil)
+	p := newDesk(t, 0, nil)
 	wantRefused(t, p, api.Admin{Kind: api.Delete, Name: "web"}, api.ErrNone)
 	for range 3 {
 		wantAdmin(t, p, add("web"), api.OK)
@@ -240,7 +234,7 @@ func TestNamesAreSortedByteByByte(t *testing.T) {
 	sorted := []string{"/", "//", "/0", "/a", "0", "0/", "10", "9", "99", "a", "a/", "a0", "a10", "a9", "aa", "ab", "b", "z", "zz"}
 	r := rand.New(rand.NewSource(17))
 	for range 20 {
-		p := newPlain(t, 0, nil)
+		p := newDesk(t, 0, nil)
 		numbers := make([]int, len(sorted))
 		for _, i := range r.Perm(len(sorted)) {
 			wantAdmin(t, p, add(sorted[i]), api.OK)
@@ -254,7 +248,7 @@ func TestNamesAreSortedByteByByte(t *testing.T) {
 }
 
 func TestListsOfStateAreTheCallers(t *testing.T) {
-	p := newPlain(t, 0, make([]byte, 5))
+	p := newDesk(t, 0, make([]byte, 5))
 	want := api.State{Left: 5}
 	for _, name := range []string{"", "a", "b", "c", "d", "e"} {
 		if name != "" {
@@ -286,7 +280,7 @@ func TestListsOfStateAreTheCallers(t *testing.T) {
 
 func TestDesksSideBySide(t *testing.T) {
 	draws := make([]byte, 40)
-	p, q := newPlain(t, 10, draws), newPlain(t, 10, draws)
+	p, q := newDesk(t, 10, draws), newDesk(t, 10, draws)
 	wantAdmin(t, p, add("web"), api.OK)
 	wantState(t, q, api.State{Left: 40})
 	wantAdmin(t, q, add("web"), api.OK)
@@ -295,25 +289,25 @@ func TestDesksSideBySide(t *testing.T) {
 	wantState(t, q, api.State{Names: []string{"al", "web"}, Numbers: []int{1, 1}, Left: 40})
 	wantAdmin(t, q, api.Admin{Kind: api.Delete, Name: "web"}, api.OK)
 	wantState(t, p, api.State{Names: []string{"web"}, Numbers: []int{2}, Left: 40})
-	copied := *p
-	wantAdmin(t, &copied, add("bo"), api.OK)
-	wantAdmin(t, &copied, api.Admin{Kind: api.Rekey, Name: "web"}, api.OK)
+	copied := p.copied()
+	wantAdmin(t, copied, add("bo"), api.OK)
+	wantAdmin(t, copied, api.Admin{Kind: api.Rekey, Name: "web"}, api.OK)
 	wantState(t, p, api.State{Names: []string{"web"}, Numbers: []int{2}, Left: 40})
 }
 
-func TestDesksThatNewPlainDidNotMake(t *testing.T) {
-	var none *warden.Plain
+func TestDesksThatNoCallMade(t *testing.T) {
+	none := noDesk(t)
 	for kind := -1; kind <= 6; kind++ {
 		if e := none.Admin(api.Admin{Kind: kind, Name: "web"}); e != api.ErrArg {
 			t.Errorf("P1: Admin of kind %d at no desk = %d, want ErrArg", kind, e)
 		}
 	}
 	wantState(t, none, api.State{})
-	var zero warden.Plain
-	wantState(t, &zero, api.State{})
-	wantRefused(t, &zero, api.Admin{Kind: api.Rekey, Name: "web"}, api.ErrNone)
-	wantAdmin(t, &zero, add("web"), api.OK)
-	wantState(t, &zero, api.State{Names: []string{"web"}, Numbers: []int{1}})
+	zero := zeroDesk(t)
+	wantState(t, zero, api.State{})
+	wantRefused(t, zero, api.Admin{Kind: api.Rekey, Name: "web"}, api.ErrNone)
+	wantAdmin(t, zero, add("web"), api.OK)
+	wantState(t, zero, api.State{Names: []string{"web"}, Numbers: []int{1}})
 }
 
 // expected works out anew what Admin does to some entries, by name their key numbers.
@@ -360,7 +354,7 @@ func randomAdmin(r *rand.Rand) api.Admin {
 func TestManyAdmins(t *testing.T) {
 	r := rand.New(rand.NewSource(23))
 	for range 50 {
-		p := newPlain(t, 0, make([]byte, 3))
+		p := newDesk(t, 0, make([]byte, 3))
 		entries := make(map[string]int)
 		for range 300 {
 			a := randomAdmin(r)

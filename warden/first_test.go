@@ -8,7 +8,6 @@ import (
 	"testing"
 
 	"warden/api"
-	"warden/warden"
 )
 
 // toTgs is what plainFirst is given.
@@ -162,7 +161,7 @@ func TestPostdating(t *testing.T) {
 			{greatest - int64(skew), greatest, api.NeverValid}, {greatest - int64(skew) - 1, greatest, api.CannotPostdate}, {greatest, greatest, api.NeverValid},
 			{least, least + int64(skew), api.NeverValid}, {least, least + int64(skew) + 1, api.CannotPostdate}, {least, greatest, api.CannotPostdate},
 		} {
-			p := newPlain(t, skew, drawBytes(24))
+			p := newDesk(t, skew, drawBytes(24))
 			wantAdmin(t, p, add("al"), api.OK)
 			wantAdmin(t, p, add("tgs"), api.OK)
 			ask := firstAsk{client: "al", service: "tgs", from: c.from}
@@ -182,7 +181,7 @@ func TestPreTimes(t *testing.T) {
 			{0, greatest, true}, {0, least, true}, {-1, greatest, true}, {1, least, true}, {least, greatest, true}, {greatest - 1, least, true},
 			{least, least, false}, {least, least + far, false}, {least, least + far + 1, true}, {greatest - 1, greatest - 1 - far, false}, {greatest - 1, greatest - 2 - far, true},
 		} {
-			p := newPlain(t, skew, drawBytes(24))
+			p := newDesk(t, skew, drawBytes(24))
 			wantAdmin(t, p, api.Admin{Kind: api.Add, Name: "al", Key: alKey, Life: 1, Flags: api.MustPre}, api.OK)
 			wantAdmin(t, p, api.Admin{Kind: api.Add, Name: "tgs", Key: tgsKey, Life: 1}, api.OK)
 			ask := plainFirst
@@ -322,7 +321,7 @@ type firstScene struct {
 	draws   int
 }
 
-func (s *firstScene) desk(t *testing.T) *warden.Plain {
+func (s *firstScene) desk(t *testing.T) *both {
 	t.Helper()
 	return deskOf(t, s.draws, s.al, s.tgs)
 }

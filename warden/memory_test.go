@@ -128,7 +128,7 @@ func TestRequestsStayTheirOwners(t *testing.T) {
 	wantRepeats(t, p, 1)
 	// Draws that are changed behind NewPlain.
 	draws := drawBytes(24)
-	p = newPlain(t, 10, draws)
+	p = newDesk(t, 10, draws)
 	for _, a := range usual(0) {
 		a.Kind = api.Add
 		wantAdmin(t, p, a, api.OK)
@@ -174,7 +174,7 @@ func TestRepliesAreTheCallers(t *testing.T) {
 
 func TestDesksThatAnswerSideBySide(t *testing.T) {
 	draws := drawBytes(72)
-	p, q := newPlain(t, 10, draws), newPlain(t, 10, draws)
+	p, q := newDesk(t, 10, draws), newDesk(t, 10, draws)
 	for _, a := range usual(0) {
 		a.Kind = api.Add
 		wantAdmin(t, p, a, api.OK)
@@ -186,11 +186,11 @@ func TestDesksThatAnswerSideBySide(t *testing.T) {
 	wantAnswer(t, "the other desk", q, 1000, request, toWeb(0).toNext())
 	wantCode(t, "one desk again", p, 1000, request, api.Repeat)
 	// A copy of a desk is one of its own too.
-	copied := *p
+	copied := p.copied()
 	ask := plainNext(plainGrant)
 	ask.proof = makeProof(50, "al", 1000, 2)
-	wantAnswer(t, "a copy", &copied, 1000, ask.write(), toWeb(0).drawnFrom(3).toNext())
-	wantCode(t, "a copy, later", &copied, 5000, showProof("al", 5000, 1), api.ServiceUnknown)
+	wantAnswer(t, "a copy", copied, 1000, ask.write(), toWeb(0).drawnFrom(3).toNext())
+	wantCode(t, "a copy, later", copied, 5000, showProof("al", 5000, 1), api.ServiceUnknown)
 	wantRepeats(t, p, 1)
 	wantCode(t, "one desk again", p, 1000, request, api.Repeat)
 	wantAnswer(t, "one desk", p, 1000, ask.write(), toWeb(0).drawnFrom(3).toNext())

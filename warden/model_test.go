@@ -431,7 +431,7 @@ func TestManyRequests(t *testing.T) {
 	var codes [64]int
 	for range 400 {
 		m := &model{skew: pick[int64](r, 0, 10, 10, 10, 11, api.MaxSkew), draws: randomBytes(r.Rand, 24*r.Intn(60)+r.Intn(24)), entries: make(map[string]*modelEntry)}
-		p := newPlain(t, int(m.skew), m.draws)
+		p := newDesk(t, int(m.skew), m.draws)
 		now := pick[int64](r, 1000, 1000, least, 0, greatest-200, greatest-30, int64(r.Uint64()))
 		for _, name := range []string{"tgs", "al", "bo", "web"} {
 			a := r.policy(api.Admin{Kind: api.Add, Name: name, Key: r.Uint64()}, now)

@@ -9,7 +9,6 @@ import (
 	"testing"
 
 	"warden/api"
-	"warden/warden"
 )
 
 func TestTimesOfNextTickets(t *testing.T) {
@@ -529,7 +528,7 @@ func rightNextScene() nextScene {
 	}
 }
 
-func (s *nextScene) desk(t *testing.T) *warden.Plain {
+func (s *nextScene) desk(t *testing.T) *both {
 	t.Helper()
 	p := deskOf(t, s.draws, s.tgs, s.al, s.web)
 	for _, count := range s.earlier {

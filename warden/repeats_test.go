@@ -5,7 +5,6 @@ import (
 	"testing"
 
 	"warden/api"
-	"warden/warden"
 )
 
 // showProof gives a next request that is refused behind its proof: its service has no entry.
@@ -16,13 +15,13 @@ func showProof(client string, time, count int64) []byte {
 }
 
 // wantNew wants that a proof was not remembered.
-func wantNew(t *testing.T, p *warden.Plain, now int64, client string, time, count int64) {
+func wantNew(t *testing.T, p teller, now int64, client string, time, count int64) {
 	t.Helper()
 	wantCode(t, fmt.Sprintf("a new proof of %s, %d, %d", client, time, count), p, now, showProof(client, time, count), api.ServiceUnknown)
 }
 
 // wantProof wants that a proof is refused with a code, and that nothing changes but what is forgotten.
-func wantProof(t *testing.T, p *warden.Plain, now int64, client string, time, count int64, code int64) {
+func wantProof(t *testing.T, p teller, now int64, client string, time, count int64, code int64) {
 	t.Helper()
 	wantCode(t, fmt.Sprintf("a proof of %s, %d, %d", client, time, count), p, now, showProof(client, time, count), code)
 }
@@ -107,7 +106,7 @@ func TestForgottenProofs(t *testing.T) {
 func TestProofTimes(t *testing.T) {
 	for _, skew := range []int{0, 1, 10, api.MaxSkew} {
 		far := int64(skew)
-		p := newPlain(t, skew, nil)
+		p := newDesk(t, skew, nil)
 		wantAdmin(t, p, api.Admin{Kind: api.Add, Name: "tgs", Key: tgsKey}, api.OK)
 		for _, c := range []struct {
 			now, time int64

@@ -12,7 +12,7 @@ import (
 )
 
 // wantNoRequest wants the refusal of what is neither a first nor a next request, and that nothing changes.
-func wantNoRequest(t *testing.T, what string, p *warden.Plain, request []byte) {
+func wantNoRequest(t *testing.T, what string, p teller, request []byte) {
 	t.Helper()
 	before := p.State()
 	wantAnswer(t, what, p, 1000, request, makeRefusal(1000, api.Generic))
@@ -155,21 +155,20 @@ func TestTimesOfRefusals(t *testing.T) {
 		wantAnswer(t, "no request", p, now, nil, makeRefusal(now, api.Generic))
 		wantAnswer(t, "an unknown client", p, now, firstAsk{client: "x", service: "y"}.write(), makeRefusal(now, api.Unknown))
 	}
-	if r := newPlain(t, 10, nil).Answer(1000, nil); !bytes.Equal(r, []byte{48, 10, 2, 1, 30, 2, 2, 3, 232, 2, 1, 60}) {
+	if r := newDesk(t, 10, nil).Answer(1000, nil); !bytes.Equal(r, []byte{48, 10, 2, 1, 30, 2, 2, 3, 232, 2, 1, 60}) {
 		t.Errorf("P7: a refusal is %v", r)
 	}
 }
 
 func TestDesksWithoutABook(t *testing.T) {
-	var none *warden.Plain
-	for _, p := range []*warden.Plain{none, new(warden.Plain), newPlain(t, 10, nil)} {
+	for _, p := range []teller{noDesk(t), zeroDesk(t), newDesk(t, 10, nil)} {
 		wantAnswer(t, "nothing", p, 5, nil, makeRefusal(5, api.Generic))
 		wantAnswer(t, "a first one", p, 5, plainFirst.write(), makeRefusal(5, api.Unknown))
 		wantAnswer(t, "a next one", p, 5, plainNext(plainGrant).write(), makeRefusal(5, api.ServiceUnknown))
 		wantState(t, p, api.State{})
 	}
-	// A desk that NewPlain did not make has the skew 0, and no draws.
-	zero := new(warden.Plain)
+	// A desk that was not made by a call has the skew 0, and no draws.
+	zero := zeroDesk(t)
 	for _, a := range usual(0) {
 		a.Kind = api.Add
 		wantAdmin(t, zero, a, api.OK)

@@ -5,6 +5,7 @@ import (
 	"warden/api"
 	"warden/boxes"
 	"warden/desk"
+	"warden/quick"
 	"warden/seal"
 )
 
@@ -14,7 +15,9 @@ type Plain struct {
 }
 
 // Quick is a desk that takes them in batches.
-type Quick struct{}
+type Quick struct {
+	desk quick.Desk
+}
 
 // Hash gives the hash of some bytes (P3).
 func Hash(data []byte) uint64 { return seal.Hash(data) }
@@ -77,13 +80,36 @@ func (p *Plain) State() api.State {
 }
 
 // NewQuick makes a quick desk (P11).
-func NewQuick(skew int, draws []byte) (*Quick, api.Errno) { return nil, api.OK }
+func NewQuick(skew int, draws []byte) (*Quick, api.Errno) {
+	made, errno := quick.New(skew, draws)
+	if errno != api.OK {
+		return nil, errno
+	}
+	return &Quick{desk: made}, api.OK
+}
 
 // Batch does some jobs (P11).
-func (q *Quick) Batch(jobs []api.Job) ([]api.Done, api.Errno) { return nil, api.OK }
+func (q *Quick) Batch(jobs []api.Job) ([]api.Done, api.Errno) {
+	if q == nil {
+		// It says what a plain desk that is none says.
+		return quick.Batch((*Plain)(nil), jobs)
+	}
+	return quick.Batch(&q.desk, jobs)
+}
 
 // State tells what there is (P11).
-func (q *Quick) State() api.State { return api.State{} }
+func (q *Quick) State() api.State {
+	if q == nil {
+		return api.State{}
+	}
+	return q.desk.State()
+}
 
 // Pool tells of buffers and what is remembered (P12).
-func (q *Quick) Pool() api.Pool { return api.Pool{} }
+func (q *Quick) Pool() api.Pool {
+	if q == nil {
+		// It remembers nothing, so it tells what a fresh desk does.
+		q = new(Quick)
+	}
+	return q.desk.Pool()
+}
